@@ -1,0 +1,1 @@
+"""Fourway: nets of four ends at each place, and the rounds that choices leave."""
