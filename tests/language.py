@@ -39,7 +39,7 @@ def faults(name, source, own=()):
     for node in ast.walk(tree):
         for fault in node_faults(node, own):
             found.append(f"{name}:{getattr(node, 'lineno', 0)}: {fault}")
-    return found + top_faults(tree)
+    return found + top_faults(tree) + walked_faults(tree) + set_faults(tree) + keyword_faults(tree) + local_faults(tree)
 
 
 def sign_faults(source):
@@ -188,3 +188,75 @@ def names_bound(part):
     if isinstance(part, ast.Assign):
         return [part.targets[0].id]
     return [part.name] if isinstance(part, (ast.FunctionDef, ast.ClassDef)) else []
+
+
+def parents(tree):
+    return {child: node for node in ast.walk(tree) for child in ast.iter_child_nodes(node)}
+
+
+def called_name(node):
+    """The name of Python's own, or of a method, by which a node is a call."""
+    if not isinstance(node, ast.Call):
+        return None
+    return node.func.id if isinstance(node.func, ast.Name) else node.func.attr
+
+
+def walked_faults(tree):
+    above = parents(tree)
+    found = []
+    for node in ast.walk(tree):
+        if called_name(node) in {"zip", "enumerate", "reversed", "range", "items", "keys", "values"}:
+            if not is_walked(node, above[node]):
+                found.append(f"{node.lineno}: L23")
+    return found
+
+
+def is_walked(node, holder):
+    if isinstance(holder, (ast.For, ast.comprehension)):
+        return holder.iter is node
+    name = called_name(holder)
+    if name in {"min", "max"}:
+        return holder.args == [node] and not holder.keywords
+    if name == "join":
+        return isinstance(holder.func.value, ast.Constant)
+    first = {"list", "tuple", "dict", "sorted", "sum", "any", "all", "enumerate", "zip"}
+    return name in first and holder.args[0] is node
+
+
+def set_faults(tree):
+    above = parents(tree)
+    found = []
+    for node in ast.walk(tree):
+        if called_name(node) in {"set", "frozenset"} or isinstance(node, ast.Set):
+            holder = above[node]
+            while isinstance(holder, ast.BinOp):
+                holder = above[holder]
+            plain = called_name(holder) in {"sorted", "len"} and not holder.keywords
+            if not plain and not isinstance(holder, ast.Compare):
+                found.append(f"{node.lineno}: L24")
+    return found
+
+
+KEYWORDS = {
+    "sorted": {"key", "reverse"}, "min": {"key", "default"}, "max": {"key", "default"}, "sum": {"start"},
+    "enumerate": {"start"}, "zip": {"strict"},
+}
+
+
+def keyword_faults(tree):
+    found = []
+    for node in ast.walk(tree):
+        name = called_name(node)
+        if name in CALLED | METHODS and {word.arg for word in node.keywords} - KEYWORDS.get(name, set()):
+            found.append(f"{node.lineno}: L22")
+    return found
+
+
+def local_faults(tree):
+    taken = [name for part in tree.body if isinstance(part, (ast.ImportFrom, ast.ClassDef)) for name in names_bound(part)]
+    found = []
+    for node in ast.walk(tree):
+        stored = isinstance(node, ast.Name) and isinstance(node.ctx, ast.Store) and node.id in taken
+        if stored or (isinstance(node, ast.arg) and node.arg in taken):
+            found.append(f"{node.lineno}: L15 local")
+    return found

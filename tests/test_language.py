@@ -64,13 +64,23 @@ class Checker(unittest.TestCase):
             "def f(id):\n    return id\n", "def f(x):\n    return x.title()\n", "x = 1\nx = 2\n", "def f(x):\n\treturn x\n",
             "# a type\n", "x = 'a%'\n", "def f(x, y):\n    return x is y\n", "def _f(x):\n    return x\n",
             "class A:\n    x = 1\n", "x = 1  #" + " " * 120 + "\n", "def f():\n" + "    f()\n" * 40,
+            "def f(x):\n    y = range(x)\n    return y\n", "def f(x):\n    return 3 in range(x)\n",
+            "def f(x):\n    for y in set(x):\n        f(y)\n", "def f(x):\n    y = set(x)\n    return 3 in y\n",
+            "def f(x):\n    return x.split(sep='a')\n", "def f(x):\n    return int(x, base=2)\n",
+            "from fourway.nets import net_of\n\n\ndef f(net_of):\n    return net_of\n",
+            "def f(x):\n    return min(range(x), key=len)\n", "def f(x):\n    return len(x.items())\n",
             "def f(x):\n    return chr(x)\n", "def f(x):\n    for y in x:\n        pass\n    else:\n        f(y)\n",
         ):
             self.assertNotEqual(faults("sample", source), [], source)
 
     def test_it_lets_stand_what_is_in(self):
-        source = '"""Words."""\n\nX = (1, "a")\n\n\ndef f(x):\n    return [y + 1 for y in x if y is not None]\n'
-        self.assertEqual(faults("sample", source), [])
+        for source in (
+            '"""Words."""\n\nX = (1, "a")\n\n\ndef f(x):\n    return [y + 1 for y in x if y is not None]\n',
+            "def f(x):\n    return sorted(set(x)) + list(range(3)) + [len(set(x) - set([1]))]\n",
+            "def f(x):\n    return max(range(x)) if x in set([1]) else sorted(x, key=len)\n",
+            "def f(x):\n    return sum([y for y in reversed(x)]) + max([y for z, y in enumerate(x)], default=0)\n",
+        ):
+            self.assertEqual(faults("sample", source), [], source)
 
 
 if __name__ == "__main__":
