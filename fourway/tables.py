@@ -35,6 +35,10 @@ def sum_of_rows(table, numbers):
     return total
 
 
+def has_number(table, number):
+    return is_whole(number) and 0 <= number < len(table)
+
+
 def is_square(thing):
     return isinstance(thing, list) and len(thing) <= MOST_ROWS and all([is_row(row, len(thing)) for row in thing])
 
