@@ -3,7 +3,7 @@
 from fourway.errors import NoCross
 from fourway.pivots import exchanged_at, turned_at
 from fourway.tables import copied, do_cross
-from fourway.words import number_in, places_of
+from fourway.words import first_place, places_of
 
 
 class Change:
@@ -20,7 +20,7 @@ class Turn(Change):
         return word[:start] + word[start:places[1]][::-1] + word[places[1]:]
 
     def done_web(self, letters, web):
-        return turned_at(web, number_in(letters, self.letter))
+        return turned_at(web, first_place(letters, self.letter))
 
     def back(self):
         return Turn(self.letter)
@@ -38,8 +38,8 @@ class Swap(Change):
         return exchanged(word, cuts)
 
     def done_web(self, letters, web):
-        one = number_in(letters, self.one)
-        other = number_in(letters, self.other)
+        one = first_place(letters, self.one)
+        other = first_place(letters, self.other)
         if web[one][other] != 1:
             raise NoCross("the letters do not cross in the web")
         return exchanged_at(web, one, other)

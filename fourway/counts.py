@@ -7,7 +7,6 @@ from fourway.nets import SEATS, places_in
 from fourway.ranks import rest_of
 
 ARROWED_WAYS = (0, 2)
-TAKEN = -1
 
 
 def counts_of(net, order=None):
@@ -18,7 +17,7 @@ def counts_of(net, order=None):
     counted = {tuple(net): [1]}
     for place in places:
         counted = without_place(counted, place)
-    return counted[tuple([TAKEN for end in net])]
+    return counted[tuple([None for end in net])]
 
 
 def table_counts(table):
@@ -59,8 +58,8 @@ def join_place(ties, place, way):
 def join_ends(ties, one, other):
     far = ties[one]
     near = ties[other]
-    ties[one] = TAKEN
-    ties[other] = TAKEN
+    ties[one] = None
+    ties[other] = None
     if far == other:
         return 1
     ties[far] = near

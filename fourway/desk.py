@@ -8,7 +8,7 @@ from fourway.least import compared, least_writing
 from fourway.reading import net_by
 from fourway.tables import crossings, ones_in
 from fourway.texts import net_text
-from fourway.words import is_small_letter, letters_of, number_in, word_told
+from fourway.words import first_place, is_small_letter, letters_of, word_told
 
 FIRST_WORD = "aa"
 FIGURES = "0123456789"
@@ -116,5 +116,5 @@ def answer(word, words):
 
 def crossing_letters(word, letter):
     letters = letters_of(word)
-    row = crossings(word)[number_in(letters, letter)]
+    row = crossings(word)[first_place(letters, letter)]
     return "".join([letters[j] for j in ones_in(row)]) if 1 in row else "-"

@@ -10,7 +10,7 @@ def pivoted(table, numbers):
     if len(numbers) == 1 and table[numbers[0]][numbers[0]] == 1:
         near = near_to(table, numbers[0])
         return changed_where(table, lambda i, j: i in near and j in near)
-    if len(numbers) == 2 and part_at(table, numbers) == [[0, 1], [1, 0]]:
+    if part_at(table, numbers) == [[0, 1], [1, 0]]:
         return exchanged_at(table, numbers[0], numbers[1])
     raise NoPivot("no pivot at these numbers")
 

@@ -7,7 +7,7 @@ MOST_ROWS = 10
 
 
 def is_table(thing):
-    return is_square(thing) and copied(thing) == columns_of(thing)
+    return is_square(thing) and thing == columns_of(thing)
 
 
 def is_web(thing):

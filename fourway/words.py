@@ -18,15 +18,14 @@ def letters_of(word):
 
 
 def places_of(word, letter):
-    number_in(word, letter)
-    return (word.find(letter), word.rfind(letter))
+    return (first_place(word, letter), word.rfind(letter))
 
 
-def number_in(letters, letter):
-    # A text of several letters may stand in a word, or none, and is no letter all the same.
-    if len(letter) != 1 or letter not in letters:
+def first_place(text, letter):
+    # A longer text, or the one without signs, may stand in a text too and is no letter all the same.
+    if len(letter) != 1 or letter not in text:
         raise NoLetter(letter)
-    return letters.find(letter)
+    return text.find(letter)
 
 
 def is_small_letter(text):

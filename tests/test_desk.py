@@ -211,6 +211,13 @@ class Refused(unittest.TestCase):
             self.refused(desk, "same " + text, NoWord, at)
         self.nothing_was_kept(desk)
 
+    def test_texts_that_are_lines_by_themselves(self):
+        desk = desk_with("abcabc")
+        for text, at in (("undo", 0), ("show", 0), ("least", 0), ("net", 0), ("counts", 0), ("mirror", 5), ("same", 0)):
+            self.refused(desk, "word " + text, NoWord, at)
+            self.refused(desk, "same " + text, NoWord, at)
+        self.nothing_was_kept(desk)
+
     def test_letters_that_the_word_lacks(self):
         desk = desk_with("abcabc")
         for letter in "dz":

@@ -132,6 +132,10 @@ class Refused(unittest.TestCase):
         self.refused([], [0])
         self.refused([], [0, 1])
 
+    def test_truths_stand_for_no_numbers(self):
+        self.refused([[1, 0], [0, 1]], [True])
+        self.refused([[0, 1], [1, 0]], [False, True])
+
     def test_every_short_list_of_numbers(self):
         for table in [table for size in range(4) for table in all_tables(size)]:
             allowed = pivots_of(table)

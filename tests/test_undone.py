@@ -26,6 +26,10 @@ class Can(unittest.TestCase):
             for numbers in all_sets(range(len(table))):
                 self.assertIs(can_undo(table, list(numbers)), is_undone_part(table, numbers))
 
+    def test_what_is_no_set_of_the_tables_numbers(self):
+        for numbers in ([2], [-1], [0, 2], [1, 0], [0, 0], [FAR]):
+            self.assertIs(can_undo(unit(2), numbers), False, numbers)
+
     def test_what_is_handed_in_is_not_changed(self):
         table, numbers = [[0, 1], [1, 0]], [0, 1]
         can_undo(table, numbers)

@@ -92,6 +92,12 @@ class Wheel(unittest.TestCase):
             for order in product((-1, 0, 1, 5), repeat=many):
                 self.assertIs(is_wheel(wheel, list(order)), False)
 
+    def test_webs_of_other_sizes(self):
+        wheel = wheel_by([0, 1, 2, 3, 4, 5])
+        for size in (0, 1, 5, 7, 10):
+            web = [[wheel[i][j] if max(i, j) < 6 else 0 for j in range(size)] for i in range(size)]
+            self.assertIs(is_wheel(web, [0, 1, 2, 3, 4, 5]), False)
+
     def test_truths_stand_for_no_points(self):
         self.assertIs(is_wheel(wheel_by([0, 1, 2, 3, 4, 5]), [False, True, 2, 3, 4, 5]), False)
 
